@@ -4,7 +4,6 @@ import (
 	"orchard/api"
 	"orchard/chunk"
 	"orchard/msg"
-	"orchard/plog"
 )
 
 // feedAll sends each other replica the entries that it needs next.
@@ -98,9 +97,6 @@ func (c *Core) take(m msg.Msg) int {
 				}
 				break
 			}
-			if !c.restore(x) {
-				return last
-			}
 			last = x.Index
 		}
 		list = list[1:]
@@ -110,12 +106,6 @@ func (c *Core) take(m msg.Msg) int {
 		return last
 	}
 	return last + len(list)
-}
-
-// restore writes an entry again if it is damaged; its term is known.
-func (c *Core) restore(x plog.Entry) bool {
-	_, ok := c.read(x.Index)
-	return ok || !c.dead() && c.mend(x)
 }
 
 // sound returns up to where, and at most up to an index, no entry was found damaged.

@@ -60,7 +60,13 @@ func (c *Core) hearAsk(m msg.Msg) {
 // hearGive repairs what is damaged. An index and a term tell an entry, whoever gives it.
 func (c *Core) hearGive(m msg.Msg) {
 	for _, x := range m.Entries {
-		if x.Term < 1 || x.Term > api.MaxTime || c.log.Term(x.Index) == x.Term && !c.restore(x) {
+		if x.Term < 1 || x.Term > api.MaxTime {
+			return
+		}
+		if c.log.Term(x.Index) != x.Term {
+			continue
+		}
+		if _, ok := c.read(x.Index); !ok && !c.mend(x) {
 			return
 		}
 	}
@@ -102,8 +108,8 @@ func (c *Core) settle(m msg.Msg) bool {
 	if m.Term > c.opened {
 		return c.cut(m.Last + 1)
 	}
-	if m.Term < api.MaxTime && c.enter(m.Term+1, 0) {
-		c.send(msg.Msg{Kind: msg.FeedGive, To: m.From})
+	if m.Term < api.MaxTime {
+		c.enter(m.Term+1, 0)
 	}
 	return false
 }

@@ -79,7 +79,7 @@ func (c *Core) Compact(index int, data string) api.Errno {
 		return api.ErrUnavail
 	}
 	term := c.log.Term(index)
-	if index < c.First() || index > c.commit || term == 0 {
+	if term == 0 || index > c.commit {
 		return api.ErrArg
 	}
 	e := c.shots.Put(index, term, data)
@@ -218,7 +218,8 @@ func (c *Core) hearShotGive(m msg.Msg) {
 	if !c.useful(m.List) {
 		return
 	}
-	if m.List.Index > c.fetch.list.Index {
+	// The leader's is taken in any case: as long as this replica lags behind, the others may have to wait for it.
+	if m.List.Index > c.fetch.list.Index || m.From == c.lead && !m.List.Same(c.fetch.list) {
 		c.forget()
 		c.fetch.list = m.List
 		c.fetch.list.Sums = slices.Clone(m.List.Sums)
@@ -249,12 +250,11 @@ func (c *Core) mendChunk(m msg.Msg) {
 // useful reports whether a snapshot of another replica has what is missing, damaged, or not known here, or makes room.
 func (c *Core) useful(l chunk.List) bool {
 	mine, _ := c.shots.List()
-	if l.Index <= mine.Index {
+	if l.Index <= mine.Index || l.Index < c.First()-1 {
 		return false
 	}
 	h := c.log.Hurt()
-	return l.Index > c.commit || len(c.hurt) > 0 || h != 0 && h <= l.Index ||
-		c.missing() && l.Index >= c.First()-1 || c.Room() == 0 && l.Index >= c.First()
+	return l.Index > c.commit || h != 0 && h <= l.Index || len(c.hurt) > 0 || c.missing() || c.Room() == 0
 }
 
 // collect takes a part of the snapshot that is being received; with the last one that is stored.
