@@ -93,6 +93,8 @@ func TestRepairEntries(t *testing.T) {
 		"some, and the next": append(both(4, 12), entryBlocks(8)...),
 		"marks":              markBlocks(span(1, 11)...),
 		"half of the log":    both(span(1, 50)...),
+		"all of the log":     both(span(1, 64)...),
+		"all but the head":   span(2, Blocks-1),
 	} {
 		for _, n := range []int{3, 5, 7} {
 			for from := 1; from <= n; from++ {
@@ -213,6 +215,7 @@ func TestRepairSnapshots(t *testing.T) {
 		"Lists and entry":  append(both(10), 2, 3),
 		"Lists and log":    append(both(9, 10, 11), 2, 3),
 		"chunks and marks": append(markBlocks(9, 10), 4, 5),
+		"all but the head": span(2, Blocks-1),
 	}
 	for name, list := range lists {
 		for _, who := range [][]int{{1}, {2}, {3}, {1, 2}, {2, 3}, {1, 2, 3}} {

@@ -218,15 +218,27 @@ func (c *Core) hearShotGive(m msg.Msg) {
 	if !c.useful(m.List) {
 		return
 	}
-	// The leader's is taken in any case: as long as this replica lags behind, the others may have to wait for it.
-	if m.List.Index > c.fetch.list.Index || m.From == c.lead && !m.List.Same(c.fetch.list) {
+	if c.prefers(m) {
 		c.forget()
-		c.fetch.list = m.List
+		c.fetch.list, c.fetch.from = m.List, m.From
 		c.fetch.list.Sums = slices.Clone(m.List.Sums)
 	}
 	if m.List.Same(c.fetch.list) {
 		c.collect(m)
 	}
+}
+
+// prefers reports whether the snapshot that a message gives is received instead of the one that is being received: one
+// that reaches further. But the leader's goes first, since the others may have to wait for this replica.
+func (c *Core) prefers(m msg.Msg) bool {
+	was := c.fetch
+	switch {
+	case was.list.Index == 0:
+		return true
+	case m.From == c.lead:
+		return !m.List.Same(was.list)
+	}
+	return was.from != c.lead && m.List.Index > was.list.Index
 }
 
 // mendChunk repairs a chunk of the snapshot.
