@@ -458,6 +458,14 @@ func TestTakesNoOtherParts(t *testing.T) {
 	if i, s, e := c.Shot(); i != 20 || s != text || e != api.OK || c.First() != 21 || c.Last() != 20 || c.Commit() != 20 || !c.Clean() {
 		t.Error(face(c))
 	}
+	// A wrong part does not keep the right one from being taken.
+	c = opened(t, dev.New(Blocks), 1, 3)
+	for _, m := range []msg.Msg{give(0, text[:400], 2), give(1, "x"+text[:399], 2), give(1, text[:400], 2), give(2, text[:100], 2)} {
+		c.Hear(m)
+	}
+	if i, s, e := c.Shot(); i != 20 || s != text || e != api.OK {
+		t.Error(face(c))
+	}
 	// An older one is not taken.
 	l = chunk.Of(19, 3, "older")
 	c.Hear(give(0, "older", 2))
@@ -506,7 +514,13 @@ func TestTakeWithoutPower(t *testing.T) {
 // P15.4: a snapshot is not taken if all that it covers is here.
 func TestTakesNoMoreThanNeeded(t *testing.T) {
 	for _, l := range []chunk.List{chunk.Of(8, 3, "new"), chunk.Of(10, 5, "new"), chunk.Of(11, 5, "new"), chunk.Of(3, 1, "new")} {
-		c := opened(t, usual(t), 1, 3)
+		d := usual(t)
+		d.Lose(logBase + 11)
+		c := opened(t, d, 1, 3)
+		if c.Hear(msg.Msg{Kind: msg.ShotGive, From: 2, To: 1, Term: 7, List: l, Data: "new"}); l.Index < 11 && c.First() != 9 {
+			t.Error(l, face(c))
+		}
+		c = opened(t, usual(t), 1, 3)
 		c.Hear(msg.Msg{Kind: msg.ShotGive, From: 2, To: 1, Term: 7, List: l, Data: "new"})
 		if c.First() != 9 || c.Commit() != max(8, l.Index) || c.Last() != 11 || !c.Clean() || len(c.Out()) > 0 {
 			t.Error(l, face(c))
