@@ -34,8 +34,8 @@ func (c *Core) askEntries(to int) {
 	}
 }
 
-// hearAsk gives the entries that are asked for. A leader that is asked as such (Ok) gives those of its own log, whatever
-// their terms are. Who asks for entries that only a snapshot covers is offered that.
+// hearAsk gives the entries that are asked for. A leader that is asked as such (Ok) gives those of its own log,
+// whatever their terms are. Who asks for entries that only a snapshot covers is offered that.
 func (c *Core) hearAsk(m msg.Msg) {
 	leads := m.Ok && c.role == Leader && m.Term == c.Term()
 	reply := msg.Msg{Kind: msg.Give, To: m.From, Ok: leads}
@@ -95,11 +95,11 @@ func (c *Core) above(u int) int {
 	return 0
 }
 
-// settle deals with entries that are not known and that the leader cannot tell, since it did not have them, or the known
-// one after them, when it sent a message; it reports whether the message can be followed. If the leader's term began after
-// the log was opened, what is here beyond the leader's log is older than that term: as the leader has all that is
-// committed, it can go. But a leader of the term in which the log was opened may have had it confirmed since it sent this
-// message. Then another term must begin.
+// settle deals with entries that are not known and that the leader cannot tell, since it did not have them, or the
+// known one after them, when it sent a message; it reports whether the message can be followed. If the leader's term
+// began after the log was opened, what is here beyond the leader's log is older than that term: as the leader has all
+// that is committed, it can go. But a leader of the term in which the log was opened may have had it confirmed since it
+// sent this message. Then another term must begin.
 func (c *Core) settle(m msg.Msg) bool {
 	u := c.unknown()
 	if u == 0 || max(u, c.above(u)) <= m.Last {
@@ -130,7 +130,8 @@ func (c *Core) askLeader(to int) {
 }
 
 // resolve lets entries that are not known be those of the leader. As long as there is one, nothing is appended, and no
-// vote is given; and what is known after them stays, since it may be committed, unless the leader has another entry there.
+// vote is given; and what is known after them stays, since it may be committed, unless the leader has another entry
+// there.
 func (c *Core) resolve(m msg.Msg) {
 	for _, x := range m.Entries {
 		if t := c.log.Term(x.Index); t != 0 && t != x.Term {

@@ -17,7 +17,7 @@ const giveUp = 20
 type fetch struct {
 	list  chunk.List
 	parts map[int]part
-	from  int // who gave the last part
+	from  int // who gave the last part, and is asked for the next one
 	idle  int // the ticks since then
 }
 
@@ -129,7 +129,8 @@ func (c *Core) Wish() int {
 	return i
 }
 
-// askShot asks for the snapshot that is being received, or else, a replica, for what is damaged or missing of the own one.
+// askShot asks for the snapshot that is being received, or else, a replica, for what is damaged or missing of the own
+// one.
 func (c *Core) askShot(to int) {
 	if c.fetch.list.Index != 0 {
 		c.fetch.idle++
@@ -160,8 +161,8 @@ func (c *Core) askPart(to int) {
 	}
 }
 
-// wantShot asks for a part of a snapshot, or of any other one that reaches at least to an index and further than that. It tells
-// what is committed, so that who is asked may store one.
+// wantShot asks for a part of a snapshot, or of any other one that reaches at least to an index, and further than that
+// one. It tells what is committed, so that who is asked may store one.
 func (c *Core) wantShot(to, index int, l chunk.List, k int) {
 	c.send(msg.Msg{
 		Kind: msg.ShotAsk, To: to, Index: index, List: l, Part: k,
