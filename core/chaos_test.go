@@ -2,11 +2,11 @@ package core
 
 import (
 	"flag"
+	"slices"
 	"testing"
 
 	"orchard/api"
 	"orchard/dev"
-	"orchard/msg"
 	"orchard/slot"
 )
 
@@ -47,6 +47,10 @@ func (w *world) act(x chaos) {
 	}
 	p := w.r.Intn(1000)
 	switch {
+	case p < x.crash/4:
+		for k := 1; k <= w.n; k++ {
+			w.crash(k, w.fates()...)
+		}
 	case p < x.crash/2:
 		w.devs[k].Fall(w.r.Intn(8))
 	case p < x.crash:
@@ -88,7 +92,7 @@ func (w *world) deliver(x chaos) {
 	m := w.way[i]
 	p := w.r.Intn(100)
 	if p >= 10 {
-		w.way = append(w.way[:i:i], w.way[i+1:]...)
+		w.way = slices.Delete(w.way, i, i+1)
 	}
 	if p >= 100-x.lose || w.apart[m.From] || w.apart[m.To] {
 		return
@@ -203,7 +207,7 @@ func (w *world) calm() {
 	}
 }
 
-// open15 reports whether P15.5 promises anything.
+// promised reports whether P15.5 promises anything.
 func (w *world) promised() bool {
 	for k := 1; k <= w.n; k++ {
 		if c := w.cores[k]; c.Role() == Lost || c.Room() < 8 {
@@ -213,8 +217,8 @@ func (w *world) promised() bool {
 	return len(w.hit) <= (w.n-1)/2 || len(w.hit) < w.n && w.marksIntact()
 }
 
-// marksIntact reports whether each entry whose mark some replica has reads as Good at some replica, all marks are
-// intact, and for each damaged snapshot there is another one or a log.
+// marksIntact reports whether all marks are intact, each entry whose mark some replica has reads as Good at some replica,
+// and no damage has left a committed entry without a copy.
 func (w *world) marksIntact() bool {
 	for k := 1; k <= w.n; k++ {
 		c := w.cores[k]
@@ -294,7 +298,7 @@ func (w *world) someAbsent() {
 	for range w.r.Intn((w.n-1)/2 + 1) {
 		w.off[1+w.r.Intn(w.n)] = true
 	}
-	w.until([]int{3: 60, 5: 100, 7: 100}[w.n], "led", func() bool { return w.leader() != 0 })
+	w.led(bound(w.n))
 	w.stays()
 	w.until(150, "level", w.level)
 	clear(w.off)
@@ -362,5 +366,3 @@ func TestChaos(t *testing.T) {
 		}
 	}
 }
-
-var _ = []any{dev.Lost, msg.Feed, states}

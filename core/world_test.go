@@ -12,7 +12,6 @@ import (
 	"orchard/dev"
 	"orchard/head"
 	"orchard/msg"
-	"orchard/plog"
 	"orchard/slot"
 )
 
@@ -366,12 +365,6 @@ func (w *world) until(most int, what string, done func() bool) int {
 func (w *world) propose(k int) (int, api.Errno) {
 	w.seq++
 	return w.cores[k].Propose(fmt.Sprintf("entry %d", w.seq))
-}
-
-// states returns how an entry reads.
-func states(c *Core, i int) (string, plog.State) {
-	x, state := c.Entry(i)
-	return x.Data, state
 }
 
 // shotBlock returns the block of a copy of the List, or of chunk n-2, of an area.
