@@ -279,12 +279,7 @@ func (w *world) uneven() {
 		k := who[w.r.Intn(len(who))]
 		w.tick(k)
 		w.collect(k)
-		for len(w.way) > 0 {
-			m := w.way[0]
-			w.way = w.way[1:]
-			w.hear(m)
-			w.collect(m.To)
-		}
+		w.drain()
 		w.wishes()
 		if w.level() {
 			return

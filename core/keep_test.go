@@ -329,12 +329,7 @@ func TestWish(t *testing.T) {
 			w.tick(k)
 			w.collect(k)
 		}
-		for len(w.way) > 0 {
-			m := w.way[0]
-			w.way = w.way[1:]
-			w.hear(m)
-			w.collect(m.To)
-		}
+		w.drain()
 		for _, k := range []int{1, 3} {
 			switch w.cores[k].Wish() {
 			case 0:

@@ -146,12 +146,7 @@ func TestCommittedInTheRound(t *testing.T) {
 		}
 		i, e := w.propose(lead)
 		w.collect(lead)
-		for len(w.way) > 0 {
-			m := w.way[0]
-			w.way = w.way[1:]
-			w.hear(m)
-			w.collect(m.To)
-		}
+		w.drain()
 		if e != api.OK || c.Commit() != i {
 			w.fail("%d is not committed, %d", i, e)
 		}

@@ -271,6 +271,16 @@ func (w *world) hear(m msg.Msg) {
 	}
 }
 
+// drain lets all messages be heard, and those that are sent in response.
+func (w *world) drain() {
+	for len(w.way) > 0 {
+		m := w.way[0]
+		w.way = w.way[1:]
+		w.hear(m)
+		w.collect(m.To)
+	}
+}
+
 // round is one of P15.6. It stores snapshots where they are wanted.
 func (w *world) round() {
 	heard := 0
